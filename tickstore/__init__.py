@@ -1,0 +1,1 @@
+"""A key-value store that survives power failures, over a disk that is simulated byte by byte."""

@@ -1,0 +1,48 @@
+"""What is kept between the calls: the files of the disk, the memory, and the durable tick."""
+
+from tickstore.frames import frame
+from tickstore.rows import checkpoint_row
+
+
+def checkpoint_file(side):
+    """The number of the checkpoint file of a side."""
+    return side
+
+
+def journal_file(side):
+    """The number of the journal file of a side."""
+    return 2 + side
+
+
+def commit_file(number):
+    """The number of the file in which the commit record with this number is stored."""
+    return 4 + number % 2
+
+
+def new_files():
+    """The files of a new disk."""
+    files = [[], [], [], [], [], []]
+    files[checkpoint_file(0)] = frame(checkpoint_row(0, {}))
+    files[commit_file(1)] = frame([1, 0])
+    return files
+
+
+class Memory:
+    """What the store knows while there is power."""
+
+    def __init__(self, tick_number, entries, side, commit_number):
+        self.tick_number = tick_number
+        self.entries = entries
+        self.side = side
+        self.commit_number = commit_number
+        # The bytes of the checkpoint's frame that are not written yet; None while no checkpoint is being written.
+        self.pending = None
+
+
+class Session:
+    """The disk and the memory, which is None without power; the durable tick is no part of either."""
+
+    def __init__(self):
+        self.files = new_files()
+        self.memory = Memory(0, {}, 0, 1)
+        self.durable_tick = 0
