@@ -3,6 +3,7 @@
 import unittest
 
 from tickstore.frames import frame
+from tickstore.inspection import status
 from tickstore.operations import commit_checkpoint, contents, recover, tick, begin_checkpoint, write_checkpoint
 from tickstore.session import Session
 
@@ -145,6 +146,19 @@ class LargestNumbers(unittest.TestCase):
         self.assertEqual(session.files[2], before)
         self.assertEqual(session.durable_tick, BIG)
         self.assertEqual(tick(self.recovered(BIG + 1, 4), -1, []), [-5])
+
+    def test_commit_records_above_the_largest(self):
+        for number in (BIG, BIG + 1, 128 ** 12 // 2 - 1):
+            for lower in (1, BIG - 1, number - 1):
+                session = both_sides({4: frame([lower, 0]), 5: frame([number, 1])})
+                self.assertEqual(recover(session), [0, 1, 20, 0, 0])
+                self.assertEqual(status(session), [0, 1, 20, 1, number, 0, 0, 20])
+                begin_checkpoint(session)
+                write_checkpoint(session, 1000)
+                before = [list(data) for data in session.files]
+                self.assertEqual(commit_checkpoint(session, -1), [-5])
+                self.assertEqual(session.files, before)
+                self.assertEqual(status(session), [0, 1, 20, 1, number, 1, 0, 20])
 
     def test_the_largest_commit_record(self):
         session = self.recovered(3, BIG - 1)

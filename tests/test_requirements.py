@@ -3,7 +3,9 @@
 import random
 import unittest
 
-from tickstore import operations
+from tests.calls import (BEGIN, CONTENTS, CUT, LIST_TICKS, RECOVER, RESET, STATUS, ask, commit, corrupt, import_journal,
+                         last, preview, read_file, text_bytes, tick, write)
+from tickstore import importing, inspection, operations
 from tickstore.recovery import recovered
 from tickstore.session import Session
 
@@ -25,6 +27,19 @@ def changed(entries, changes):
     return after
 
 
+def random_journal(dice):
+    """A text of the old format, and the contents after each of its ticks."""
+    text = ""
+    history = [{}]
+    for number in range(1, dice.choice((1, 2, 4, 9))):
+        changes = random_changes(dice)
+        tokens = [f"{key}={value}" if choice == 1 else f"{key}!"
+                  for key, choice, value in zip(changes[::3], changes[1::3], changes[2::3])]
+        text += " ".join([str(number)] + tokens) + "\n"
+        history.append(changed(history[-1], changes))
+    return text, history
+
+
 class Walk:
     """A session, and the contents after each tick as they should be."""
 
@@ -34,6 +49,7 @@ class Walk:
         self.session = Session()
         self.history = [{}]
         self.durable = 0
+        self.renewals = 0
 
     def tick(self):
         power = self.dice.choice((-1, -1, -1, 100000, self.dice.randrange(0, 60)))
@@ -72,11 +88,36 @@ class Walk:
         if self.dice.randrange(0, 10) == 0:
             operations.cut_power(self.session)
 
+    def renew(self):
+        """Corrupts some bytes, or none, and puts in a new disk."""
+        if self.dice.randrange(0, 40) != 0:
+            return
+        for number in range(self.dice.choice((0, 1, 30))):
+            inspection.corrupt_byte(self.session, self.dice.randrange(6), self.dice.randrange(12), 9)
+        text, history = random_journal(self.dice)
+        if self.dice.randrange(0, 3) == 0 or self.session.memory is None:
+            history = [{}]
+            self.test.assertEqual(operations.reset(self.session), [0])
+        else:
+            self.test.assertEqual(importing.import_journal(self.session, text_bytes(text)),
+                                  [0, len(history) - 1, len(history[-1])])
+        self.history = history
+        self.durable = len(history) - 1
+        self.renewals += 1
+
+    def refused_import(self):
+        answer = importing.import_journal(self.session, text_bytes("1 3=5\n2 x\n"))
+        self.test.assertEqual(answer, [-2] if self.session.memory is not None else [-7])
+
+    def steps(self):
+        return (self.tick, self.checkpoint, self.checkpoint, self.recover, self.cut, self.renew, self.refused_import)
+
     def check(self):
         test = self.test
         test.assertEqual(self.session.durable_tick, self.durable)
         memory = self.session.memory
         if memory is None:
+            test.assertEqual(inspection.status(self.session), [0] * 7 + [self.durable])
             return
         test.assertEqual((memory.tick_number, memory.entries), (len(self.history) - 1, self.history[-1]))
         self.check_recovery(memory)
@@ -96,19 +137,66 @@ class Requirements(unittest.TestCase):
     def test_random_sessions(self):
         for seed in range(60):
             walk = Walk(self, seed)
-            for step in range(200):
-                walk.dice.choice((walk.tick, walk.checkpoint, walk.checkpoint, walk.recover, walk.cut))()
+            for step in range(300):
+                walk.dice.choice(walk.steps())()
                 walk.check()
 
     def test_random_sessions_reach_all_places(self):
         most_commits = 0
+        most_renewals = 0
         for seed in range(60):
             walk = Walk(self, seed)
-            for step in range(200):
-                walk.dice.choice((walk.tick, walk.checkpoint, walk.checkpoint, walk.recover, walk.cut))()
+            for step in range(300):
+                walk.dice.choice(walk.steps())()
             walk.recover()
             most_commits = max(most_commits, walk.session.memory.commit_number)
+            most_renewals = max(most_renewals, walk.renewals)
         self.assertGreaterEqual(most_commits, 5)
+        self.assertGreaterEqual(most_renewals, 3)
+
+
+def random_call(dice):
+    """A call that corrupts nothing."""
+    changes = random_changes(dice)
+    return dice.choice((tick(-1, *changes), tick(-1, *changes), tick(dice.randrange(70), *changes), BEGIN, BEGIN,
+                        write(dice.randrange(1, 60)), write(100000), write(100000), commit(-1), commit(-1),
+                        commit(dice.randrange(11)), RECOVER, RECOVER, CUT if dice.randrange(4) == 0 else STATUS,
+                        LIST_TICKS, preview("1 3=5\n"), read_file(6), import_journal("x\n"),
+                        import_journal(random_journal(dice)[0]) if dice.randrange(4) == 0 else tick(-1)))
+
+
+class ThroughTheCalls(unittest.TestCase):
+    def test_a_recovery_would_yield_what_is_in_memory(self):
+        checkpointing = 0
+        for seed in range(400):
+            dice = random.Random(seed)
+            calls = [random_call(dice) for number in range(dice.randrange(1, 60))]
+            if seed % 4 == 0:
+                calls[dice.randrange(len(calls)):0] = [corrupt(0, 3, 9), corrupt(2, 9, 9), corrupt(5, 1, 1), RESET]
+            before = last(*calls, STATUS)
+            if before[1] == 0:
+                continue
+            has_power, tick_number, side, commit_number, is_checkpointing = before[1:6]
+            checkpointing += is_checkpointing
+            contents, cut, recovery, status, contents_then = ask(*calls, CONTENTS, CUT, RECOVER, STATUS, CONTENTS)[-5:]
+            self.assertEqual((recovery[0], recovery[1], recovery[2], recovery[4]), (0, side, tick_number, 0), calls)
+            self.assertEqual(status, [0, 1, tick_number, side, commit_number, 0, 0, tick_number])
+            self.assertEqual(contents_then, contents)
+        self.assertGreater(checkpointing, 30)
+
+    def test_each_byte_at_which_the_power_may_fail(self):
+        for seed in range(40):
+            dice = random.Random(seed)
+            calls = [random_call(dice) for number in range(20)] + [RECOVER, tick(-1, *random_changes(dice))]
+            durable = last(*calls, STATUS)[-1]
+            before = last(*calls, CONTENTS)
+            changes = random_changes(dice)
+            done = ask(*calls, tick(-1, *changes), CONTENTS)[-2:]
+            for power in range(done[0][2]):
+                torn, status, recovery, contents = ask(*calls, tick(power, *changes), STATUS, RECOVER, CONTENTS)[-4:]
+                self.assertEqual(torn, [0, -1, done[0][2]])
+                self.assertEqual(status, [0] * 7 + [durable])
+                self.assertIn((recovery[2], contents), ((durable, before), (durable + 1, done[1])))
 
 
 class DurableTick(unittest.TestCase):

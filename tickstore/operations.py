@@ -1,11 +1,11 @@
-"""The operations on a session; each answers the list of its numbers, or one code below 0 and changes nothing."""
+"""The operations of the store itself; each answers the list of its numbers, or one code below 0 and changes nothing."""
 
 from tickstore.frames import frame
 from tickstore.limits import BAD_ARGUMENT, CHANGES_OF_A_TICK, LARGEST, NO_POWER, NOT_NOW, NOT_THERE
 from tickstore.limits import NOTHING_TO_RECOVER, TOO_LARGE, UNLIMITED, is_count, is_power
 from tickstore.recovery import recovered
 from tickstore.rows import are_changes, changed_entries, checkpoint_row, entry_numbers, tick_row
-from tickstore.session import Session, checkpoint_file, commit_file, journal_file
+from tickstore.session import checkpoint_file, commit_file, journal_file
 
 
 def writable_count(power, byte_count):
@@ -17,10 +17,7 @@ def writable_count(power, byte_count):
 
 def reset(session):
     """Operation 0."""
-    new = Session()
-    session.files = new.files
-    session.memory = new.memory
-    session.durable_tick = new.durable_tick
+    session.start_anew(0, {})
     return [0]
 
 

@@ -19,10 +19,10 @@ def commit_file(number):
     return 4 + number % 2
 
 
-def new_files():
-    """The files of a new disk."""
+def new_files(tick_number, entries):
+    """The files of a new disk whose checkpoint has these entries after the tick with this number."""
     files = [[], [], [], [], [], []]
-    files[checkpoint_file(0)] = frame(checkpoint_row(0, {}))
+    files[checkpoint_file(0)] = frame(checkpoint_row(tick_number, entries))
     files[commit_file(1)] = frame([1, 0])
     return files
 
@@ -43,6 +43,10 @@ class Session:
     """The disk and the memory, which is None without power; the durable tick is no part of either."""
 
     def __init__(self):
-        self.files = new_files()
-        self.memory = Memory(0, {}, 0, 1)
-        self.durable_tick = 0
+        self.start_anew(0, {})
+
+    def start_anew(self, tick_number, entries):
+        """Puts in a new disk with these entries after the tick with this number, which is durable."""
+        self.files = new_files(tick_number, entries)
+        self.memory = Memory(tick_number, entries, 0, 1)
+        self.durable_tick = tick_number
