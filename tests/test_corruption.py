@@ -310,5 +310,42 @@ class LargestTick(unittest.TestCase):
         self.assertEqual(last(*calls, LIST_TICKS), [0, number + 1, 1])
 
 
+class LargestCommit(unittest.TestCase):
+    def renumbered(self, old, new, side):
+        """The calls that put one number in the place of another in the newest record, and recover from it."""
+        before = frame_of([old, side])
+        after_it = frame_of([new, side])
+        self.assertEqual(len(before), len(after_it))
+        wrong = [corrupt(4 + old % 2, place, byte) for place, byte in enumerate(after_it) if byte != before[place]]
+        return wrong + [CUT, RECOVER]
+
+    def at(self, number):
+        """Calls behind which the newest record has this number, of 9 bytes; side 0 is active."""
+        calls = []
+        old = 1
+        for length in range(1, 9):
+            # The largest number of this many bytes: the next record's number has one byte more.
+            largest = 128 ** length // 2 - 1
+            calls.extend(self.renumbered(old, largest, 1 - length % 2))
+            calls.extend(WHOLE)
+            old = largest + 1
+        return calls + self.renumbered(old, number, 0)
+
+    def test_up_to_the_largest_record(self):
+        given = ask(*self.at(BIG - 1), STATUS, *WHOLE, BEGIN, commit(-1), write(99), commit(-1), commit(0), commit(-2),
+                    STATUS, read_file(4), tick(-1), CUT, RECOVER)[-15:]
+        self.assertEqual(given[0], [0, 1, 0, 0, BIG - 1, 0, 0, 0])
+        self.assertEqual(given[3:11], [[0, 1, BIG], [0, 8], [-3], [0, 0], [-5], [-5], [-1],
+                                       [0, 1, 0, 1, BIG, 1, 0, 0]])
+        self.assertEqual(given[11], [0] + frame_of([BIG, 1]))
+        self.assertEqual(given[12:], [[0, 1, 16], [0], [0, 1, 1, 1, 0]])
+
+    def test_records_above_the_largest(self):
+        for number in (BIG, BIG + 1, 128 ** 9 // 2 - 1):
+            given = ask(*self.at(number), STATUS, BEGIN, write(99), commit(-1), STATUS)[-5:]
+            self.assertEqual(given, [[0, 1, 0, 0, number, 0, 0, 0], [0, 8], [0, 0], [-5],
+                                     [0, 1, 0, 0, number, 1, 0, 0]])
+
+
 if __name__ == "__main__":
     unittest.main()
